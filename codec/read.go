@@ -2,6 +2,7 @@ package codec
 
 import (
 	"claviger/api"
+	"claviger/number"
 )
 
 // reader goes through bytes; once something is wrong it stays so, and what it tells then means nothing.
@@ -26,20 +27,11 @@ func (r *reader) take(n int) []byte {
 }
 
 func (r *reader) small() int {
-	return int(r.sum(1))
+	return int(number.Of(r.take(1)))
 }
 
 func (r *reader) number() uint64 {
-	return r.sum(8)
-}
-
-// sum reads a number of so many bytes, the highest first.
-func (r *reader) sum(count int) uint64 {
-	n := uint64(0)
-	for _, x := range r.take(count) {
-		n = n<<8 | uint64(x)
-	}
-	return n
+	return number.Of(r.take(8))
 }
 
 func (r *reader) id() (id api.ID) {
