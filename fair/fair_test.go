@@ -125,6 +125,12 @@ func TestWholeAndPending(t *testing.T) {
 	is(false, 1)
 	does(t, w, api.Item{Kind: api.Again, Member: 1}, api.Item{Kind: api.Settle})
 	is(true, 0)
+	// a shard that one has and another one has lent still, with no letter under way
+	does(t, w, api.Item{Kind: api.Move, Member: 1, Shard: 1, To: 0}, api.Item{Kind: api.Deliver}, api.Item{Kind: api.Lose})
+	if w.Owners()[1] != 0 {
+		t.Fatal("Owners")
+	}
+	is(false, 1)
 	// a shard that nobody has, though none is lent
 	w = world(t, 2)
 	if e := w.Member(0).Do(api.Record{Kind: api.Out, Shard: 2, To: 1, Epoch: 2}); e != api.OK {

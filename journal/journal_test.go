@@ -237,6 +237,7 @@ func TestWrongArguments(t *testing.T) {
 	}
 	refuses(t, "nothing there", key, d, api.Register{Count: 1, Head: api.Digest{1}}, api.ErrSeal)
 	refuses(t, "no image there", key, d, api.Register{Count: 1, Base: 1, Head: blend.Sum(nil)}, api.ErrSeal)
+	refuses(t, "no image there, and no head", key, d, api.Register{Count: 1, Base: 1}, api.ErrSeal)
 	loads(t, d, api.Register{}, "", 0, 0)
 	loads(t, d, api.Register{Boot: 5, Point: 1}, "", 0, 0)
 	// a record that opens, but is none, is refused as what does not open is

@@ -291,6 +291,25 @@ func TestCopyAndSame(t *testing.T) {
 	if state.Same(a, b) || !state.Same(b, base()) {
 		t.Error("Copy is not by itself")
 	}
+	for _, s := range []*state.State{a, b} {
+		x := s.Copy()
+		y := s.Copy()
+		was := state.New(1, 3)
+		for n := range api.Shards {
+			role, epoch, to := s.Role(n)
+			was.Set(n, role, epoch, to, s.Vaults(n))
+		}
+		applied(t, x, api.Record{Kind: api.Keep, Vault: row(1, 1)[0]})
+		applied(t, x, api.Record{Kind: api.Out, Shard: 7, To: 0, Epoch: 2})
+		applied(t, x, api.Record{Kind: api.Done, Shard: 7, Epoch: 2})
+		if !state.Same(s, was) || !state.Same(y, was) || state.Same(x, was) {
+			t.Error("what is done to a copy is seen elsewhere")
+		}
+		applied(t, s, api.Record{Kind: api.Keep, Vault: row(1, 4)[0]})
+		if !state.Same(y, was) {
+			t.Error("what is done to one that was copied is seen in its copy")
+		}
+	}
 	c := base()
 	c.Apply(api.Record{Kind: api.Keep, Vault: row(1, 1)[0]})
 	if state.Same(c, base()) || state.Same(nil, a) || state.Same(a, nil) || state.Same(nil, nil) {

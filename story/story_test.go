@@ -402,12 +402,15 @@ settle
 	if out, n, e := story.Play(config, "settle\nsettle\nsettl\n"); e != api.ErrForm || n != 2 || len(out) != 0 {
 		t.Errorf("Play of a bad line: %d, %d", n, e)
 	}
+	if out, n, e := story.Play(config, "settl\nsettle\n"); e != api.ErrForm || n != 0 || len(out) != 0 {
+		t.Errorf("Play of a bad first line: %d, %d", n, e)
+	}
 	if out, n, e := story.Play(config, long("settle\n", 201)); e != api.ErrForm || n != 200 || len(out) != 0 {
 		t.Errorf("Play of too much: %d, %d", n, e)
 	}
 	for _, c := range []cohort.Config{{}, {Members: 9, Clients: 1}, {Members: 1, Clients: 5}} {
-		if out, _, e := story.Play(c, "nonsense"); e != api.ErrArg || len(out) != 0 {
-			t.Errorf("Play in no world: %d", e)
+		if out, n, e := story.Play(c, "settle\nnonsense"); e != api.ErrArg || n != 0 || len(out) != 0 {
+			t.Errorf("Play in no world: %d, %d", n, e)
 		}
 	}
 }

@@ -136,7 +136,9 @@ func TestMemory(t *testing.T) {
 	x.Fill(room)
 	v := vault(4, 1)
 	x.Put(v)
-	v.Secret[0], room[0].Secret[0], room[1] = 'x', 'x', api.Vault{}
+	again := vault(3, 1)
+	x.Put(again)
+	v.Secret[0], again.Secret[0], room[0].Secret[0], room[1] = 'x', 'x', 'x', api.Vault{}
 	got, _ := x.Get(api.ID{2})
 	got.Secret[1] = 'y'
 	all := x.All()
