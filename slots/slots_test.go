@@ -155,6 +155,59 @@ func TestCrash(t *testing.T) {
 	has(t, d, 4, "x")
 }
 
+// P7.2: what a crash tears is what was put last, whatever was turned since, in its slot or elsewhere.
+func TestCrashBehindTurn(t *testing.T) {
+	for _, c := range []struct {
+		torn int
+		want string
+	}{{1, "o"}, {2, "on"}, {3, "one"}, {4, "one"}, {math.MaxInt, "one"}} {
+		d := slots.New()
+		d.Put(5, []byte("all"))
+		d.Put(5, []byte("ago"))
+		d.Put(4, []byte("one"))
+		for _, x := range [][2]int{{4, 0}, {4, 2}, {4, 2}, {5, 0}} {
+			if !d.Turn(x[0], x[1]) {
+				t.Fatalf("Turn(%d, %d)", x[0], x[1])
+			}
+		}
+		has(t, d, 4, "nne")
+		if d.Pending() != 3 {
+			t.Errorf("Turn is no Put: Pending %d", d.Pending())
+		}
+		d.Crash(c.torn)
+		has(t, d, 4, c.want)
+		has(t, d, 5, "`go")
+		d.Crash(1)
+		has(t, d, 4, c.want)
+	}
+	d := slots.New()
+	d.Put(4, []byte("one"))
+	d.Sync()
+	d.Turn(4, 0)
+	d.Crash(1)
+	has(t, d, 4, "nne")
+	d.Put(4, nil)
+	d.Turn(4, 0)
+	d.Crash(1)
+	has(t, d, 4, "")
+}
+
+// P7.2: a copy, made behind a Put and a Turn, has nothing that a crash could tear; the Put of the first one is torn as it was.
+func TestCopyBehindTurn(t *testing.T) {
+	d := slots.New()
+	d.Put(4, []byte("one"))
+	d.Turn(4, 0)
+	c := d.Copy()
+	c.Crash(1)
+	has(t, c, 4, "nne")
+	c.Put(6, []byte("six"))
+	c.Crash(2)
+	has(t, c, 6, "si")
+	d.Crash(1)
+	has(t, d, 4, "o")
+	hasNone(t, d, 6)
+}
+
 // P7.3.
 func TestCopyTurnSame(t *testing.T) {
 	d := slots.New()
@@ -216,11 +269,12 @@ func TestCopyTurnSame(t *testing.T) {
 	}
 }
 
-// plain is P7.1 and P7.2 over maps.
+// plain is P7.1, P7.2 and Turn over maps.
 type plain struct {
 	now, old map[int]string
 	pending  int
 	last     int
+	put      string
 }
 
 func (p *plain) sync() {
@@ -232,13 +286,12 @@ func (p *plain) sync() {
 }
 
 func (p *plain) crash(torn int) {
-	put := p.now[p.last]
 	p.now = map[int]string{}
 	for n, s := range p.old {
 		p.now[n] = s
 	}
 	if p.pending > 0 && torn > 0 {
-		p.now[p.last] = put[:min(torn, len(put))]
+		p.now[p.last] = p.put[:min(torn, len(p.put))]
 	}
 	p.sync()
 }
@@ -257,22 +310,24 @@ func TestManyWays(t *testing.T) {
 				d.Crash(torn)
 				p.crash(torn)
 			case 2:
-				if n, at := q.Intn(10), q.Intn(6); p.pending == 0 {
-					s, there := p.now[n]
-					if d.Turn(n, at) != (there && at < len(s)) {
-						t.Fatalf("Turn(%d, %d)", n, at)
-					}
-					if at < len(s) {
-						b := []byte(s)
-						b[at] ^= 1
-						p.now[n], p.old[n] = string(b), string(b)
-					}
+				n, at := q.Intn(10), q.Intn(6)
+				if q.Intn(2) == 0 {
+					n = p.last
+				}
+				s, there := p.now[n]
+				if d.Turn(n, at) != (there && at < len(s)) {
+					t.Fatalf("Turn(%d, %d)", n, at)
+				}
+				if at < len(s) {
+					b := []byte(s)
+					b[at] ^= 1
+					p.now[n], p.old[n] = string(b), string(b)
 				}
 			default:
 				b := bytes.Repeat([]byte{byte('a' + q.Intn(26))}, q.Intn(6))
 				n := q.Intn(10)
 				d.Put(n, b)
-				p.now[n], p.last = string(b), n
+				p.now[n], p.last, p.put = string(b), n, string(b)
 				p.pending++
 			}
 			if d.Pending() != p.pending {
