@@ -100,6 +100,13 @@ func TestCheck(t *testing.T) {
 	if judge.Check(told) != 0 || judge.Check(desk.Deed{}) != 0 || judge.Check(desk.Deed{Reply: api.Reply{Why: api.ErrForm}}) != -1 {
 		t.Error("Check of one")
 	}
+	// what is no request is told ErrForm, and nothing of it
+	bad := api.Request{Op: api.Recover, ID: ids(1, 4)[0], Client: -1, Num: 7}
+	for want, r := range map[int]api.Reply{-1: {Why: api.ErrForm}, 0: {Why: api.ErrForm, ID: bad.ID, Client: -1, Num: 7}} {
+		if n := judge.Check(desk.Deed{Request: bad, Reply: r}); n != want {
+			t.Errorf("Check of %+v: %d", r, n)
+		}
+	}
 }
 
 func TestFinal(t *testing.T) {

@@ -124,11 +124,12 @@ func TestRemove(t *testing.T) {
 	asks(t, last, remove(mine), gone(api.MaxCount, false), api.OK, 0, "", true)
 }
 
+// P11.1, R3: beside ErrForm there is nothing of the request or the vault, in the reply neither.
 func TestForms(t *testing.T) {
 	refused := func(v api.Vault, q api.Request) {
 		t.Helper()
 		next, r, changed := vault.Do(v, q)
-		if !codec.Same(next, api.Vault{}) || r.Why != api.ErrForm || r.Gen != 0 || r.Left != 0 || len(r.Secret) != 0 || changed {
+		if !codec.Same(next, api.Vault{}) || !sameReply(r, api.Reply{Why: api.ErrForm}) || changed {
 			t.Errorf("Do(%+v, %+v): %+v, %+v, %v", v, q, next, r, changed)
 		}
 	}
@@ -158,6 +159,8 @@ func TestForms(t *testing.T) {
 		}
 	}
 	refused(api.Vault{ID: id}, escrow())
+	refused(api.Vault{ID: id}, recover1(right))
+	refused(api.Vault{ID: api.ID{1, 2}, Gen: 1, Limit: 3}, recover1(right))
 	refused(api.Vault{Secret: []byte{0}}, escrow())
 }
 
