@@ -494,6 +494,30 @@ func TestMove(t *testing.T) {
 	does(t, w, api.Item{Kind: api.Again}, api.ErrDown, 0)
 }
 
+// P24.1, P19.1, P19.2: a parcel and its thanks are taken by their texts, whatever number they were closed under.
+func TestLettersUnderAnyNumber(t *testing.T) {
+	w := world(t, 3, 1)
+	comes := func(kind, to int, ad byte, text []byte) {
+		t.Helper()
+		b, _ := envelope.Close(w.Key(), 12345, ad, text)
+		does(t, w, api.Item{Kind: api.Inject, N: kind, Member: to, Bytes: b}, api.OK, 0)
+		does(t, w, api.Item{Kind: api.Deliver, N: len(w.Office()) - 1}, api.OK, 0)
+	}
+	does(t, w, api.Item{Kind: api.Move, Shard: 3, To: 1}, api.OK, 0)
+	does(t, w, api.Item{Kind: api.Lose}, api.OK, 0)
+	record, _ := codec.Record(api.Record{Kind: api.In, Shard: 3, Epoch: 2})
+	comes(api.Parcel, 1, 64+1, append([]byte{0}, record...))
+	role(t, w, 1, 3, state.Own, 2, 0, 0)
+	role(t, w, 0, 3, state.Lent, 2, 1, 0)
+	thanks, _ := handoff.Thanks(w.Key(), 0, handoff.Token{From: 1, Shard: 3, Epoch: 2})
+	if l := w.Office(); len(l) != 1 || !sameLetter(l[0], api.Letter{Kind: api.Ack, From: 1, To: 0, Bytes: thanks}) {
+		t.Fatalf("thanks: %+v", l)
+	}
+	does(t, w, api.Item{Kind: api.Lose}, api.OK, 0)
+	comes(api.Ack, 0, 96+0, append([]byte{1, 3}, blend.Number(2)...))
+	role(t, w, 0, 3, state.Away, 2, 0, 0)
+}
+
 func TestAgain(t *testing.T) {
 	w := world(t, 2, 1)
 	does(t, w, api.Item{Kind: api.Again}, api.OK, 0)

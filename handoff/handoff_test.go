@@ -96,10 +96,37 @@ func TestOpenRefuses(t *testing.T) {
 	}
 	for _, text := range [][]byte{nil, {1}, in, append([]byte{8}, in...), append([]byte{255}, in...), append([]byte{1}, keep...), append([]byte{1}, done...), append([]byte{1}, out...), append(append([]byte{1}, in...), 0), append([]byte{1}, in[:len(in)-1]...)} {
 		refuses(t, "no parcel", 2, sealed(seed, text...), api.ErrForm)
+		refuses(t, "no parcel under another number", 2, sealed(12345, text...), api.ErrForm)
 	}
-	refuses(t, "a parcel under another seed", 2, sealed(seed+1, append([]byte{1}, in...)...), api.ErrForm)
-	handoff.Open(cohort, math.MinInt, b)
-	handoff.Open(cohort, math.MaxInt, b)
+	for _, to := range []int{2 + 256, 2 - 256, 2 + 1<<32} {
+		refuses(t, "a letter to no member", to, b, api.ErrForm)
+	}
+	refuses(t, "a letter to no member", math.MinInt, b, api.ErrSeal)
+	refuses(t, "a letter to no member", math.MaxInt, b, api.ErrSeal)
+}
+
+// P19.1, P19.2: the number that a letter was closed under is not asked.
+func TestAnyNumber(t *testing.T) {
+	for _, p := range parcels() {
+		record, _ := codec.Record(handoff.Record(p))
+		tk := handoff.Token{From: p.From, Shard: p.Shard, Epoch: p.Epoch}
+		token := append([]byte{byte(p.From), byte(p.Shard)}, blend.Number(p.Epoch)...)
+		of := p.Epoch*16 + uint64(p.Shard)
+		for _, n := range []uint64{0, 1, 12345, of - 1, of, of + 1, math.MaxUint64} {
+			b, _ := envelope.Close(cohort, n, 64+5, append([]byte{byte(p.From)}, record...))
+			if back, e := handoff.Open(cohort, 5, b); e != api.OK || !same(back, p) {
+				t.Errorf("Open of a parcel under %d: %+v, %d", n, back, e)
+			}
+			refuses(t, "one for another member", 4, b, api.ErrSeal)
+			b, _ = envelope.Close(cohort, n, 96+5, token)
+			if back, e := handoff.Thanked(cohort, 5, b); e != api.OK || back != tk {
+				t.Errorf("Thanked of thanks under %d: %+v, %d", n, back, e)
+			}
+			if back, e := handoff.Thanked(cohort, 4, b); e != api.ErrSeal || back != (handoff.Token{}) {
+				t.Errorf("Thanked for another member: %+v, %d", back, e)
+			}
+		}
+	}
 }
 
 func TestCloseRefuses(t *testing.T) {
@@ -166,15 +193,22 @@ func TestThanks(t *testing.T) {
 	}
 	thanked(make([]byte, 30), api.ErrSeal)
 	thanked(make([]byte, api.MaxSlot+1), api.ErrLong)
-	for _, text := range [][]byte{nil, {1}, {1, 2}, {1, 2, 0, 0, 0, 0, 0, 0, 0}, {1, 2, 0, 0, 0, 0, 0, 0, 0, 0}, {8, 2, 0, 0, 0, 0, 0, 0, 0, 1}, {1, 16, 0, 0, 0, 0, 0, 0, 0, 1}, {1, 2, 0, 0, 0, 0, 0, 0, 0, 0, 1}, {1, 2, 1, 0, 0, 0, 0, 0, 0, 1}} {
+	for _, text := range [][]byte{nil, {1}, {1, 2}, {1, 2, 0, 0, 0, 0, 0, 0, 9}, {1, 2, 0, 0, 0, 0, 0, 0, 0, 0}, {1, 2, 0, 0, 1, 0, 0, 0, 0, 1}, {1, 2, 255, 255, 255, 255, 255, 255, 255, 255}, {255, 2, 0, 0, 0, 0, 0, 0, 0, 1}, {1, 255, 0, 0, 0, 0, 0, 0, 0, 1}, {8, 2, 0, 0, 0, 0, 0, 0, 0, 1}, {1, 16, 0, 0, 0, 0, 0, 0, 0, 1}, {1, 2, 0, 0, 0, 0, 0, 0, 0, 0, 1}, {1, 2, 1, 0, 0, 0, 0, 0, 0, 1}} {
 		seed := uint64(0)
 		for _, x := range text[min(2, len(text)):] {
 			seed = seed<<8 | uint64(x)
 		}
-		b, _ := envelope.Close(cohort, seed*16+2, 98, text)
-		thanked(b, api.ErrForm)
+		for _, n := range []uint64{seed*16 + 2, 12345} {
+			b, _ := envelope.Close(cohort, n, 98, text)
+			thanked(b, api.ErrForm)
+		}
 	}
-	handoff.Thanked(cohort, math.MinInt, make([]byte, 40))
+	b, _ := handoff.Thanks(cohort, 2, handoff.Token{From: 1, Shard: 2, Epoch: 3})
+	for to, want := range map[int]api.Errno{2 + 256: api.ErrForm, 2 - 256: api.ErrForm, math.MinInt: api.ErrSeal, math.MaxInt: api.ErrSeal} {
+		if tk, e := handoff.Thanked(cohort, to, b); e != want || tk != (handoff.Token{}) {
+			t.Errorf("Thanked for %d: %+v, %d", to, tk, e)
+		}
+	}
 }
 
 func TestOfAndRecord(t *testing.T) {
